@@ -791,6 +791,90 @@ func TestPackerRefuses(t *testing.T) {
 	}
 }
 
+func TestItemsThereAndBack(t *testing.T) {
+	tests := [][]api.Record{nil, {{}}, {{Text: "a", Val: "b"}, {}, {Val: "\xff\x00"}}}
+	for _, l := range tests {
+		p := NewPacker(1000)
+		p.Numbers(7)
+		Items(p, l, (*Packer).Record)
+		p.Texts("z")
+		want := num(7) + num(len(l))
+		for _, x := range l {
+			want += text(x.Text) + text(x.Val)
+		}
+		want += text("z")
+		b, e := p.Packed()
+		if string(b) != want || e != api.OK {
+			t.Errorf("Items(%v): %q, %v, want %q", l, b, e, want)
+		}
+		r := NewReader(b)
+		if n, got, s, e := r.Number(), ReadItems(r, (*Reader).Record), r.Text(), r.End(); n != 7 || !reflect.DeepEqual(got, l) || s != "z" || e != api.OK {
+			t.Errorf("ReadItems(%q): %d, %v, %q, %v", b, n, got, s, e)
+		}
+		for i := range b {
+			r := NewReader(b[:i])
+			r.Number()
+			if got, s, e := ReadItems(r, (*Reader).Record), r.Text(), r.End(); i < len(b)-5 && got != nil || s != "" || e != api.ErrShort {
+				t.Errorf("ReadItems(%q): %v, %q, %v", b[:i], got, s, e)
+			}
+		}
+	}
+}
+
+func TestItemsAtTheirBounds(t *testing.T) {
+	nothing := func(*Packer, struct{}) {}
+	p := NewPacker(100)
+	Items(p, make([]struct{}, 1<<20), nothing)
+	if b, e := p.Packed(); string(b) != num(1<<20) || e != api.OK {
+		t.Errorf("2^20 items: %q, %v", b, e)
+	}
+	asked := 0
+	Items(p, make([]struct{}, 1<<20+1), func(*Packer, struct{}) { asked++ })
+	if b, e := p.Packed(); b != nil || e != api.ErrArg || asked != 0 {
+		t.Errorf("2^20 + 1 items: %q, %v, %d asked", b, e, asked)
+	}
+	Items(p, []int{1, 1 << 28}, func(p *Packer, n int) { p.Numbers(n) })
+	if b, e := p.Packed(); b != nil || e != api.ErrArg {
+		t.Errorf("an item that is refused: %q, %v", b, e)
+	}
+	asked = 0
+	r := NewReader([]byte("\x0f\xff\xff\xff" + num(1) + num(2)))
+	l := ReadItems(r, func(r *Reader) int { asked++; return r.Number() })
+	if e := r.End(); l != nil || e != api.ErrShort || asked != 3 {
+		t.Errorf("items that are not there: %v, %v, %d asked", l, e, asked)
+	}
+}
+
+func TestPartsThatAreRefused(t *testing.T) {
+	p := NewPacker(100)
+	p.Part([]byte("ab"), api.OK)
+	p.Part(nil, api.OK)
+	if b, e := p.Packed(); string(b) != text("ab")+text("") || e != api.OK {
+		t.Errorf("two parts: %q, %v", b, e)
+	}
+	p.Numbers(1)
+	p.Part([]byte("ab"), api.ErrState)
+	p.Numbers(1)
+	if b, e := p.Packed(); b != nil || e != api.ErrArg {
+		t.Errorf("a part with an error: %q, %v", b, e)
+	}
+	refuses := func(b []byte) (string, api.Errno) {
+		if string(b) == "no" {
+			return "what is beside an error", api.ErrTable
+		}
+		return string(b), api.OK
+	}
+	r := NewReader([]byte(text("yes") + text("no") + text("yes")))
+	if s, no, behind, e := ReadPart(r, refuses), ReadPart(r, refuses), ReadPart(r, refuses), r.End(); s != "yes" || no != "" || behind != "" || e != api.ErrTable {
+		t.Errorf("ReadPart: %q, %q, %q, %v", s, no, behind, e)
+	}
+	asked := 0
+	r = NewReader([]byte(text("yes")[:6]))
+	if n, e := ReadPart(r, func([]byte) (int, api.Errno) { asked++; return 1, api.ErrTable }), r.End(); n != 0 || e != api.ErrShort || asked != 0 {
+		t.Errorf("ReadPart of what is not there wholly: %d, %v, %d asked", n, e, asked)
+	}
+}
+
 func TestReaderBehindAnError(t *testing.T) {
 	r := NewReader([]byte("\xff\xff\xff\xff" + "\x00\x00\x00\x01" + "\x01"))
 	if n := r.Number(); n != 0 {
@@ -820,12 +904,35 @@ func TestR7Nil(t *testing.T) {
 	p.Numbers(1, -1)
 	p.Texts("a")
 	p.Truth(true)
+	p.Record(api.Record{Text: "a"})
+	p.Part([]byte("a"), api.OK)
+	p.Part(nil, api.ErrArg)
+	Items(p, []api.Record{{}}, (*Packer).Record)
+	Items[int](p, nil, nil)
 	if b, e := p.Packed(); b != nil || e != api.ErrArg {
 		t.Errorf("a nil packer: %q, %v", b, e)
+	}
+	p = NewPacker(100)
+	Items[int](p, nil, nil)
+	if b, e := p.Packed(); b != nil || e != api.ErrArg {
+		t.Errorf("items without a function: %q, %v", b, e)
 	}
 	var r *Reader
 	if n, s, b, e := r.Number(), r.Text(), r.Truth(), r.End(); n != 0 || s != "" || b || e != api.ErrArg {
 		t.Errorf("a nil reader: %d, %q, %v, %v", n, s, b, e)
+	}
+	if x, s, l, e := r.Record(), ReadPart(r, back), ReadItems(r, (*Reader).Record), r.End(); x != (api.Record{}) || s != "" || l != nil || e != api.ErrArg {
+		t.Errorf("a nil reader: %v, %q, %v, %v", x, s, l, e)
+	}
+	tests := map[string]api.Errno{"\x01" + num(0): api.ErrArg, "\x01" + num(1) + "a": api.ErrArg, "\x02" + num(0): api.ErrForm}
+	for s, want := range tests { // an error that was met ahead of the nil function is told
+		part, items := NewReader([]byte(s)), NewReader([]byte(s))
+		part.Truth()
+		items.Truth()
+		n, l := ReadPart[int](part, nil), ReadItems[int](items, nil)
+		if e, f := part.End(), items.End(); n != 0 || l != nil || e != want || f != want {
+			t.Errorf("%q, without a function: %d, %v, %v, %v, want %v", s, n, l, e, f, want)
+		}
 	}
 	for i, e := range []api.Errno{errOf(ReadAsk(nil)), errOf(ReadReply(nil)), errOf(ReadList(nil, back))} {
 		if e != api.ErrShort {

@@ -46,7 +46,30 @@ func (p *Packer) Truth(t bool) {
 	}
 }
 
-// Packed answers all parts, and leaves nothing. ErrArg: a number was not from 0 to MaxNumber, or there was no room.
+// Record lays a record: its texts.
+func (p *Packer) Record(x api.Record) { p.Texts(x.Text, x.Val) }
+
+// Part lays b as a text, where e is what was told beside b. An e that is not OK is refused.
+func (p *Packer) Part(b []byte, e api.Errno) {
+	if e != api.OK {
+		p.refuse()
+	}
+	p.Texts(string(b))
+}
+
+// Items lays how many items l has, and each of them by one. More than 2^20 are refused.
+func Items[T any](p *Packer, l []T, one func(*Packer, T)) {
+	if one == nil || len(l) > maxItems {
+		p.refuse()
+		return
+	}
+	p.Numbers(len(l))
+	for _, x := range l {
+		one(p, x)
+	}
+}
+
+// Packed answers all parts, and leaves nothing. ErrArg: a part was refused: a number was not from 0 to MaxNumber, or there was no room.
 func (p *Packer) Packed() ([]byte, api.Errno) {
 	if p == nil {
 		return nil, api.ErrArg
@@ -108,6 +131,48 @@ func (r *Reader) Truth() bool {
 		r.fail(api.ErrForm)
 	}
 	return s == "\x01"
+}
+
+// Record takes a record: its texts.
+func (r *Reader) Record() api.Record { return api.Record{Text: r.Text(), Val: r.Text()} }
+
+// ReadPart takes a text, and answers what one answers of its bytes. What one says is wrong with them is wrong with the part.
+func ReadPart[T any](r *Reader, one func([]byte) (T, api.Errno)) T {
+	var none T
+	s := r.Text()
+	if r == nil || r.e != api.OK {
+		return none
+	}
+	if one == nil {
+		r.fail(api.ErrArg)
+		return none
+	}
+	x, e := one([]byte(s))
+	if e != api.OK {
+		r.fail(e)
+		return none
+	}
+	return x
+}
+
+// ReadItems takes how many items there are, and each of them by one. How many there are said to be is not trusted: it ends behind a part that is not there.
+func ReadItems[T any](r *Reader, one func(*Reader) T) []T {
+	many := r.Number()
+	if r == nil || r.e != api.OK {
+		return nil
+	}
+	if one == nil {
+		r.fail(api.ErrArg)
+		return nil
+	}
+	var l []T
+	for ; many > 0 && r.e == api.OK; many-- {
+		l = append(l, one(r))
+	}
+	if r.e != api.OK {
+		return nil
+	}
+	return l
 }
 
 // End tells the first error that was met. ErrForm: there was none, and bytes are left.
