@@ -4,6 +4,7 @@ import (
 	"cmp"
 	"encoding/binary"
 	"math"
+	"reflect"
 	"slices"
 	"strings"
 	"testing"
@@ -587,5 +588,30 @@ func TestR5SameAgain(t *testing.T) {
 	Make(api.Table{Top: -1}, "z")
 	if again, e := Make(sample(), "ab\u00e9"); again != first || e != api.OK {
 		t.Errorf("Make again: %x, %v, want %x", again, e, first)
+	}
+}
+
+func TestCopyHasListsOfItsOwn(t *testing.T) {
+	was, keep := sample(), sample()
+	keep.Shifted = true
+	keep.Lore = append(keep.Lore, api.Lore{R: 'z'})[:len(keep.Lore)] // room that is not zero
+	c := Copy(keep)
+	if !reflect.DeepEqual(c, shifted(was)) || !reflect.DeepEqual(keep, shifted(was)) || keep.Lore[:cap(keep.Lore)][len(keep.Lore)].R != 'z' {
+		t.Errorf("a copy of\n%+v:\n%+v", keep, c)
+	}
+	for i := range keep.Lore {
+		clear(keep.Lore[i].To)
+	}
+	for i := range keep.Rows {
+		clear(keep.Rows[i].Of)
+		clear(keep.Rows[i].To)
+	}
+	clear(keep.Lore)
+	clear(keep.Rows)
+	if !reflect.DeepEqual(c, shifted(was)) {
+		t.Errorf("the copy changes with what it is of:\n%+v", c)
+	}
+	if none := Copy(api.Table{}); !reflect.DeepEqual(none, api.Table{}) {
+		t.Errorf("a copy of nothing: %+v", none)
 	}
 }

@@ -2,11 +2,9 @@ package store
 
 import (
 	"math"
-	"slices"
 
 	"gazetteer/api"
 	"gazetteer/journal"
-	"gazetteer/medium"
 	"gazetteer/once"
 	"gazetteer/parcel"
 )
@@ -19,9 +17,6 @@ const (
 	frozen             // the span and its epoch, likewise
 	dropped            // likewise
 )
-
-// pieceSize is how many bytes of what is told a deed has at most: with what else is in a deed it stays below a frame's limit.
-const pieceSize = api.MaxFrame / 2
 
 // told is what is told of a span: all that Hold got; of others the span and its epoch alone. It goes to the medium as bytes, in pieces, as no bound is set to a span's ends, and to how much Hold gets.
 type told struct {
@@ -71,23 +66,13 @@ func readTold(b []byte) (told, bool) {
 	return x, true
 }
 
-// deeds answers the deeds that tell b: pieces, of which the last one says what it is.
-func deeds(do int, b []byte) []journal.Deed {
-	var l []journal.Deed
-	for c := range slices.Chunk(b, pieceSize) {
-		l = append(l, journal.Deed{Do: piece, L: []api.Record{{Val: string(c)}}})
-	}
-	l[len(l)-1].Do = do // b is never empty
-	return l
-}
-
 // tell writes what was done to a span.
 func (s *Store) tell(do int, x api.Span, epoch int) api.Errno {
 	b, e := told{span: x, epoch: epoch}.pack()
 	if e != api.OK {
 		return e
 	}
-	return s.write(deeds(do, b)...)
+	return s.write(journal.Pieces(do, piece, b)...)
 }
 
 // write makes deeds durable: all of them, or, with an error, none.
@@ -95,31 +80,7 @@ func (s *Store) write(l ...journal.Deed) api.Errno {
 	if s.m == nil {
 		return api.OK
 	}
-	b, e := frames(l)
-	if e != api.OK {
-		return e
-	}
-	s.m.Append(b)
-	s.m.Sync()
-	return api.OK
-}
-
-// frames answers the bytes of deeds as they lie on a medium.
-func frames(l []journal.Deed) ([]byte, api.Errno) {
-	m := medium.New()
-	for _, d := range l {
-		if e := journal.Add(m, d); e != api.OK {
-			return nil, e
-		}
-	}
-	return m.Bytes(), api.OK
-}
-
-// cut leaves these deeds on m, which it begins with, and no others.
-func cut(m *medium.Medium, l []journal.Deed) {
-	if b, e := frames(l); e == api.OK { // what was read can be written
-		m.Swap(b)
-	}
+	return journal.Write(s.m, l...)
 }
 
 // again does what deeds tell, up to the first that is refused, and answers how many were done. Pieces are done with the deed that ends them: without it they are nothing.

@@ -535,7 +535,7 @@ func TestP15_1OtherBytes(t *testing.T) {
 // TestP15_1ToldBytes changes what deeds tell, in frames that open all the same.
 func TestP15_1ToldBytes(t *testing.T) {
 	b, _ := told{keys("b", "d"), 5, recs("b", "c"), []once.Last{last(1, 2)}}.pack()
-	good := whole(open(t, laid(t, deeds(held, b)), 2))
+	good := whole(open(t, laid(t, journal.Pieces(held, piece, b)), 2))
 	none := whole(&Store{})
 	want(t, "nothing", len(open(t, laid(t, []journal.Deed{{Do: held}}), 2).l), 0)
 	for at := range len(b) {
@@ -543,7 +543,7 @@ func TestP15_1ToldBytes(t *testing.T) {
 			if len(x) == 0 {
 				continue
 			}
-			m := laid(t, deeds(held, x))
+			m := laid(t, journal.Pieces(held, piece, x))
 			s := open(t, m, 2)
 			if len(s.l) == 0 && (whole(s) != none || len(m.Bytes()) != 0) || len(s.l) == 1 && slices.Equal(x, b) != (whole(s) == good) {
 				t.Fatalf("%q: %s", x, whole(s))
@@ -551,13 +551,13 @@ func TestP15_1ToldBytes(t *testing.T) {
 			checkOpen(t, "told bytes", m, 2, whole(s))
 		}
 	}
-	two := deeds(held, b)
+	two := journal.Pieces(held, piece, b)
 	two[0].L = append(two[0].L, rec("", "x"))
 	want(t, "more than one record", len(open(t, laid(t, two), 2).l), 0)
 	reply := slices.Clone(b)
 	reply[len(b)-26+12] = 2 // where it is told whether something was found
-	want(t, "an answer that is none", len(open(t, laid(t, deeds(held, reply)), 2).l), 0)
-	want(t, "bytes that are left", len(open(t, laid(t, deeds(held, append(slices.Clone(b), 0))), 2).l), 0)
+	want(t, "an answer that is none", len(open(t, laid(t, journal.Pieces(held, piece, reply)), 2).l), 0)
+	want(t, "bytes that are left", len(open(t, laid(t, journal.Pieces(held, piece, append(slices.Clone(b), 0))), 2).l), 0)
 }
 
 func TestP15_3AnotherTable(t *testing.T) {
